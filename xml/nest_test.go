@@ -2,6 +2,7 @@ package xml_test
 
 import (
 	"regexp"
+	"strconv"
 	"strings"
 	"testing"
 	"unicode/utf8"
@@ -181,7 +182,7 @@ func TestP205Fronts(t *testing.T) {
 const (
 	nameForm = `[A-Z_a-z:\x{C0}-\x{D6}\x{D8}-\x{F6}\x{F8}-\x{D7FF}\x{E000}-\x{FFFD}\x{10000}-\x{10FFFF}][-.0-9\x{B7}A-Z_a-z:\x{C0}-\x{D6}\x{D8}-\x{F6}\x{F8}-\x{D7FF}\x{E000}-\x{FFFD}\x{10000}-\x{10FFFF}]*`
 	blank    = `[\t\n\r ]`
-	ref      = `&(?:lt|gt|amp|quot|apos|#0*(?:9|10|13|3[2-9]|[4-9][0-9]|[1-9][0-9]{2,3})|#x0*(?:9|[aAdD]|[2-9a-fA-F][0-9a-fA-F]|[1-9a-fA-F][0-9a-fA-F]{2}));`
+	ref      = `&(?:lt|gt|amp|quot|apos|#[0-9]+|#x[0-9a-fA-F]+);`
 	value    = `(?:"(?:[^<&"]|` + ref + `)*"|'(?:[^<&']|` + ref + `)*')`
 	note     = `<!--(?:[^-]|-[^-])*-->`
 	order    = `<\?(` + nameForm + `)(?:` + blank + `(?s:.*?))?\?>`
@@ -190,7 +191,7 @@ const (
 
 // grammar says by regular expressions, not by a parser, what a document is.
 type grammar struct {
-	front, aside, start, attr, end, text *regexp.Regexp
+	front, aside, start, attr, end, text, number *regexp.Regexp
 }
 
 func newGrammar() grammar {
@@ -201,14 +202,34 @@ func newGrammar() grammar {
 		attr:  regexp.MustCompile(blank + `+(` + nameForm + `)` + blank + `*=` + blank + `*` + value),
 		end:   regexp.MustCompile(`^</(` + nameForm + `)` + blank + `*>`),
 		text:  regexp.MustCompile(`^(?:<!\[CDATA\[(?s:.*?)\]\]>|` + ref + `|[^<&])`),
+
+		number: regexp.MustCompile(`&#(x?)([0-9a-fA-F]+);`),
 	}
+}
+
+// none tells whether r, of those that Go's UTF-8 takes, is no Char.
+func none(r rune) bool {
+	return r < ' ' && !strings.ContainsRune("\t\n\r", r) || r == 0xFFFE || r == 0xFFFF
+}
+
+// chars tells whether s's references by number, if they are some, are of Chars.
+func (g grammar) chars(s string) bool {
+	for _, m := range g.number.FindAllStringSubmatch(s, -1) {
+		base := 10
+		if m[1] != "" {
+			base = 16
+		}
+		n, err := strconv.ParseUint(m[2], base, 31)
+		if err != nil || !utf8.ValidRune(rune(n)) || none(rune(n)) {
+			return false
+		}
+	}
+	return true
 }
 
 // takes tells whether s is a document.
 func (g grammar) takes(s string) bool {
-	if !utf8.ValidString(s) || strings.ContainsFunc(s, func(r rune) bool {
-		return r < ' ' && !strings.ContainsRune("\t\n\r", r) || r == 0xFFFE || r == 0xFFFF
-	}) {
+	if !utf8.ValidString(s) || strings.ContainsFunc(s, none) {
 		return false
 	}
 	s = s[len(g.front.FindString(s)):]
@@ -219,7 +240,7 @@ func (g grammar) takes(s string) bool {
 		if m := g.aside.FindStringSubmatch(s); m != nil {
 			n, ok = len(m[0]), !strings.EqualFold(m[1], "xml")
 		} else if m := g.start.FindStringSubmatch(s); m != nil {
-			n, ok = len(m[0]), !(rooted && len(open) == 0) && g.once(m[2])
+			n, ok = len(m[0]), !(rooted && len(open) == 0) && g.once(m[2]) && g.chars(m[2])
 			rooted = true
 			if m[3] == "" {
 				open = append(open, m[1])
@@ -228,8 +249,9 @@ func (g grammar) takes(s string) bool {
 			n, ok = len(m[0]), len(open) > 0 && open[len(open)-1] == m[1]
 			open = open[:max(len(open)-1, 0)]
 		} else if len(open) > 0 {
-			n = len(g.text.FindString(s))
-			ok = n > 0 && !strings.HasPrefix(s, "]]>")
+			m := g.text.FindString(s)
+			n = len(m)
+			ok = n > 0 && !strings.HasPrefix(s, "]]>") && (m[0] != '&' || g.chars(m))
 		} else {
 			n = len(s) - len(strings.TrimLeft(s, "\t\n\r "))
 			ok = n > 0
@@ -258,7 +280,7 @@ func (g grammar) once(attrs string) bool {
 func spoil(d *dice, doc string) string {
 	i := d.throw(len(doc))
 	j := min(i+d.throw(3), len(doc))
-	return doc[:i] + d.one("", "", "<", ">", "/", "!", "?", "-", "--", "]", "]]>", "&", ";", "#", "x", "a", "1", "=", "'", "\"", " ", "\n", "\r", ":", "<b>", "</a>", "<a/>", "&lt;", "<!--", "-->", "<?", "?>", "xml", "<![CDATA[", "[", "\x01", "\xff", "\u00d7", doc[i:j]+doc[i:j]) + doc[j:]
+	return doc[:i] + d.one("", "", "<", ">", "/", "!", "?", "-", "--", "]", "]]>", "&", ";", "#", "&#0;", "&#x", "&#1", "FFFE;", "4112;", "x", "a", "1", "=", "'", "\"", " ", "\n", "\r", ":", "<b>", "</a>", "<a/>", "&lt;", "<!--", "-->", "<?", "?>", "xml", "<![CDATA[", "[", "\x01", "\xff", "\u00d7", doc[i:j]+doc[i:j]) + doc[j:]
 }
 
 func TestP201ByGrammar(t *testing.T) {
