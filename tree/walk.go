@@ -9,7 +9,7 @@ import (
 	"rubric/ns"
 )
 
-// all is as many rows as there are.
+// all is as many rows, or as deep, as there are.
 const all = math.MaxInt
 
 // row is a node with its depth.
@@ -71,12 +71,18 @@ func Size(n *Node) int {
 	return size
 }
 
-// Depth answers how many elements stand within one another in n's tree.
+// Depth answers how many elements stand within one another in n's tree. A text
+// has none, whatever its Kids are: so a way counts as far as its first text.
 func Depth(n *Node) int {
-	deepest := 0
+	deepest, most := 0, all // nothing deeper than most counts, as it is in a text
 	for depth, k := range Walk(n) {
+		if depth > most {
+			continue
+		}
 		if k.Elem() {
-			deepest = max(deepest, depth)
+			deepest, most = max(deepest, depth), all
+		} else {
+			most = depth
 		}
 	}
 	return deepest

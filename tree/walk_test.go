@@ -99,6 +99,51 @@ func TestP402WalkByRecursion(t *testing.T) {
 	}
 }
 
+// TestP402DepthOfTexts: a text counts 0 with all that is in it, wherever it stands.
+func TestP402DepthOfTexts(t *testing.T) {
+	in := func(kids ...*tree.Node) *tree.Node { return &tree.Node{Text: "t", Kids: kids} }
+	a := func(kids ...*tree.Node) *tree.Node { return elem("", "a", kids...) }
+	spaced := &tree.Node{Name: name("u", ""), Kids: []*tree.Node{a()}}
+	for i, c := range []struct {
+		n           *tree.Node
+		size, depth int
+	}{
+		{in(a()), 2, 0},
+		{&tree.Node{Kids: []*tree.Node{a()}}, 2, 0},
+		{spaced, 2, 0},
+		{in(in(a(a()))), 4, 0},
+		{in(a(), in(), a(a())), 5, 0},
+		{a(in(a())), 3, 1},
+		{a(spaced), 3, 1},
+		{a(in(a(a(in(a()))))), 6, 1},
+		{a(in(in(a()))), 4, 1},
+		{a(in(a()), a(in())), 5, 2},
+		{a(a(in()), in(a())), 5, 2},
+		{a(in(), a(a())), 4, 3},
+		{a(in(in(), a(a())), in(a())), 7, 1},
+		{a(in(a(a())), a(in(a(a()))), a(a())), 10, 3},
+		{a(a(a(in(a()))), in(a(a(a(a()))))), 10, 3},
+		{in(a(), a()), 3, 0},
+	} {
+		if tree.Depth(c.n) != c.depth || tree.Size(c.n) != c.size {
+			t.Errorf("%d: depth %d, size %d; want %d, %d", i, tree.Depth(c.n), tree.Size(c.n), c.depth, c.size)
+		}
+	}
+	d := dice(3)
+	for range 2000 {
+		n := d.right(5)
+		for _, s := range collect(tree.Walk(n)) {
+			if d.throw(6) == 0 {
+				s.node.Name.Local = ""
+			}
+		}
+		want := steps(n, 1)
+		if !slices.Equal(collect(tree.Walk(n)), want) || tree.Size(n) != len(want) || tree.Depth(n) != deep(n) {
+			t.Fatal(tell(n))
+		}
+	}
+}
+
 // TestP402Shared: a node may stand at several places.
 func TestP402Shared(t *testing.T) {
 	x := elem("", "x", text("t"))
