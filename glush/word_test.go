@@ -197,6 +197,47 @@ func TestP904LongWords(t *testing.T) {
 	}
 }
 
+// reps answers Reps within Reps.
+func (d *roll) reps(depth int) glush.Expr {
+	if depth == 0 {
+		return d.expr(1)
+	}
+	l := []glush.Expr{d.expr(0), d.reps(depth - 1), d.expr(0)}[d.throw(2) : 2+d.throw(2)]
+	low, high := d.bounds()
+	return rep(low, high, []glush.Expr{seq(l...), alt(l...), l[0]}[d.throw(3)])
+}
+
+// TestP904RepsWithinReps: what is known of one set of places is not taken for
+// another.
+func TestP904RepsWithinReps(t *testing.T) {
+	d := dice(11)
+	yes, no := 0, 0
+	for range 12000 {
+		e := d.reps(3 + d.throw(3))
+		if p := glush.Positions(e, api.MaxPos); p < 4 || p > api.MaxPos {
+			continue
+		}
+		a := built(t, e)
+		for range 4 {
+			good, spoilt := d.walk(a, 140)
+			for _, w := range [][]int{good, spoilt} {
+				got := a.Word(w)
+				if got != glush.Word(e, w) {
+					t.Fatalf("%s: %v: %v", tell(e), w, got)
+				}
+				if got && len(w) > 64 {
+					yes++
+				} else if !got && len(w) > 64 {
+					no++
+				}
+			}
+		}
+	}
+	if yes < 500 || no < 500 {
+		t.Errorf("only %d words, %d others", yes, no)
+	}
+}
+
 // TestP904Numbers: of Reps with great numbers, each number of letters near them.
 func TestP904Numbers(t *testing.T) {
 	a := sym(9)
