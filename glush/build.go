@@ -1,18 +1,22 @@
 package glush
 
-import "slices"
+import (
+	"slices"
+
+	"rubric/nums"
+)
 
 // builder numbers positions as they are come to, and gathers what may follow each.
 type builder struct {
 	syms   []int
-	follow []numbers
+	follow []nums.Set
 }
 
 // part is what is known of the words of one piece of an expression. Each part has
 // sets of its own: who is handed one may fill them.
 type part struct {
 	nullable    bool
-	first, last numbers
+	first, last nums.Set
 }
 
 // part writes out an expression that Check takes.
@@ -31,8 +35,8 @@ func (b *builder) part(e *Expr) part {
 		for i := range e.Kids {
 			p := b.part(&e.Kids[i])
 			all.nullable = all.nullable || p.nullable
-			all.first.merge(p.first)
-			all.last.merge(p.last)
+			all.first.Merge(p.first)
+			all.last.Merge(p.last)
 		}
 		return all
 	case Rep:
@@ -44,8 +48,8 @@ func (b *builder) part(e *Expr) part {
 func (b *builder) position(sym int) part {
 	n := len(b.syms)
 	b.syms = append(b.syms, sym)
-	b.follow = append(b.follow, numbers{})
-	return part{first: single(n), last: single(n)}
+	b.follow = append(b.follow, nums.Set{})
+	return part{first: nums.One(n), last: nums.One(n)}
 }
 
 // repeat writes out a Rep's kid as often as need be, and joins the copies from the
@@ -77,26 +81,26 @@ func (b *builder) repeat(e *Expr) part {
 func (b *builder) join(p, q part) part {
 	b.link(p.last, q.first)
 	if p.nullable {
-		p.first.merge(q.first)
+		p.first.Merge(q.first)
 	}
 	if q.nullable {
-		q.last.merge(p.last)
+		q.last.Merge(p.last)
 	}
 	return part{nullable: p.nullable && q.nullable, first: p.first, last: q.last}
 }
 
 // link lets each of next follow each of last.
-func (b *builder) link(last, next numbers) {
-	for p := range last.each {
-		b.follow[p].merge(next)
+func (b *builder) link(last, next nums.Set) {
+	for p := range last.Each {
+		b.follow[p].Merge(next)
 	}
 }
 
 // auto tells the automaton of the whole expression.
 func (b *builder) auto(p part) Auto {
-	a := Auto{Syms: b.syms, Nullable: p.nullable, First: p.first.list(), Last: p.last.list()}
+	a := Auto{Syms: b.syms, Nullable: p.nullable, First: p.first.List(), Last: p.last.List()}
 	for _, f := range b.follow {
-		a.Follow = append(a.Follow, f.list())
+		a.Follow = append(a.Follow, f.List())
 	}
 	return a
 }

@@ -1,25 +1,29 @@
 package glush
 
-import "slices"
+import (
+	"slices"
+
+	"rubric/nums"
+)
 
 // Step answers the positions that sym may stand at, behind one of from; from nil,
 // at the beginning. Of none it answers an empty list, as nil is the beginning.
 func (a Auto) Step(from []int, sym int) []int {
-	var next numbers
+	var next nums.Set
 	if from == nil {
 		a.take(&next, a.First, sym)
 	}
 	for _, p := range from {
 		a.take(&next, a.behind(p), sym)
 	}
-	return next.list()
+	return next.List()
 }
 
 // take puts those of list that are positions of sym into next.
-func (a Auto) take(next *numbers, list []int, sym int) {
+func (a Auto) take(next *nums.Set, list []int, sym int) {
 	for _, p := range list {
 		if a.is(p) && a.Syms[p] == sym {
-			next.add(p)
+			next.Add(p)
 		}
 	}
 }
@@ -57,14 +61,14 @@ func (a Auto) Word(w []int) bool {
 
 // Live answers whether the automaton takes any word at all.
 func (a Auto) Live() bool {
-	var met numbers
+	var met nums.Set
 	for open := slices.Clone(a.First); len(open) > 0; {
 		p := open[len(open)-1]
 		open = open[:len(open)-1]
-		if a.is(p) && !met.has(p) {
-			met.add(p)
+		if a.is(p) && !met.Has(p) {
+			met.Add(p)
 			open = append(open, a.behind(p)...)
 		}
 	}
-	return a.Nullable || a.Ends(met.list())
+	return a.Nullable || a.Ends(met.List())
 }
