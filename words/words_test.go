@@ -168,12 +168,18 @@ func TestTimesEnd(t *testing.T) {
 		inner       language
 		want        bool
 	}{{1, 2, letter("a"), true}, {2, 2, choice(letter("a"), row(letter("a"), letter("a"))), false}, {0, words.Endless, letter("a"), true}, {1000, 1000, choice(letter("a"), row()), true}, {7, 11, choice(row(letter("a"), letter("a")), letter("b")), false}} {
-		l := c.inner
-		for range 40 {
-			l = times(c.least, c.most, l)
-		}
-		if got := words.Length(len(w)).Is(l.part(w)); got != c.want {
-			t.Errorf("%d to %d of %s: %v", c.least, c.most, c.inner.text, got)
+		for i, wrap := range []func(language) language{
+			func(l language) language { return l },
+			func(l language) language { return row(row(), l) },
+			func(l language) language { return choice(choice(), l) },
+		} {
+			l := c.inner
+			for range 40 {
+				l = times(c.least, c.most, wrap(l))
+			}
+			if got := words.Length(len(w)).Is(l.part(w)); got != c.want {
+				t.Errorf("%d: %d to %d of %s: %v", i, c.least, c.most, c.inner.text, got)
+			}
 		}
 	}
 }
