@@ -1,6 +1,9 @@
 package glush
 
-import "rubric/api"
+import (
+	"rubric/api"
+	"rubric/words"
+)
 
 // maxDepth is how many expressions may stand within one another.
 const maxDepth = 200
@@ -29,7 +32,7 @@ func right(e *Expr) bool {
 	case Sym:
 		return e.Sym >= 0
 	case Rep:
-		if len(e.Kids) != 1 || !e.bounded() {
+		if len(e.Kids) != 1 || !words.Bounded(e.Min, e.Max) {
 			return false
 		}
 	case Seq, Alt:
@@ -42,12 +45,4 @@ func right(e *Expr) bool {
 		}
 	}
 	return true
-}
-
-// bounded answers whether a Rep's Min and Max may be.
-func (e *Expr) bounded() bool {
-	if e.Min < 0 || e.Min > api.MaxOccur {
-		return false
-	}
-	return e.Max == endless || e.Max >= e.Min && e.Max <= api.MaxOccur
 }

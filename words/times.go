@@ -1,9 +1,20 @@
 package words
 
-import "rubric/nums"
+import (
+	"rubric/api"
+	"rubric/nums"
+)
 
 // Endless is the most of Times that has no end.
 const Endless = -1
+
+// Bounded answers whether anything may be asked to stand least to most times.
+func Bounded(least, most int) bool {
+	if least < 0 || least > api.MaxOccur {
+		return false
+	}
+	return most == Endless || most >= least && most <= api.MaxOccur
+}
 
 // times is a Part that stands again and again. Times in Times in Times would ask
 // for more than can ever be: so what is known of the kid is kept.

@@ -183,3 +183,18 @@ func TestTimesEnd(t *testing.T) {
 		}
 	}
 }
+
+func TestBounded(t *testing.T) {
+	for _, c := range []struct {
+		least, most int
+		want        bool
+	}{
+		{0, 0, true}, {0, 1, true}, {1, 1, true}, {0, 1000, true}, {1000, 1000, true}, {0, words.Endless, true}, {1000, words.Endless, true},
+		{-1, 1, false}, {-1, words.Endless, false}, {1001, words.Endless, false}, {1001, 1001, false}, {2, 1, false}, {1, 0, false}, {0, 1001, false}, {1000, 1001, false}, {0, -2, false}, {-2, -2, false},
+		{0, 1<<63 - 1, false}, {1<<63 - 1, 1<<63 - 1, false}, {-1 << 63, 1, false}, {0, -1 << 63, false},
+	} {
+		if got := words.Bounded(c.least, c.most); got != c.want {
+			t.Errorf("%d to %d: %v", c.least, c.most, got)
+		}
+	}
+}
