@@ -5,74 +5,24 @@ import (
 
 	"rubric/api"
 	"rubric/term"
-	"rubric/wild"
+	"rubric/terms"
 )
 
-// dice are numbers that look thrown, the same in each run.
-type dice uint64
+// dice throw terms of few names, so that many of their leaves are alike.
+type dice struct{ *terms.Dice }
 
-func (d *dice) throw(n int) int {
-	*d = *d*6364136223846793005 + 1442695040888963407
-	return int(uint64(*d) >> 33 % uint64(n))
-}
-
-// again answers t with another Min and Max, the plain ones more often.
-func (d *dice) again(t term.Term) term.Term {
-	b := [][2]int{{1, 1}, {1, 1}, {1, 1}, {0, 1}, {0, -1}, {1, -1}, {0, 0}, {2, 2}, {0, 2}, {1, 3}, {2, -1}, {3, 4}}
-	l := b[d.throw(len(b))]
-	return times(l[0], l[1], t)
-}
-
-// leaf answers a leaf of few names, or of few spaces, with some number.
-func (d *dice) leaf() term.Term {
-	l := []term.Term{
+func newDice(seed int) dice {
+	return dice{terms.NewDice(seed,
 		elem("a"), elem("a"), elem("b"), elem("u:a"), elem("c"), elem("a"), elem("b"),
 		anyOf(every()), anyOf(other("u")), anyOf(other("")), anyOf(these("u")), anyOf(these("")), anyOf(these("", "u", "v")), anyOf(these()),
-	}
-	t := l[d.throw(len(l))]
-	t.Leaf = d.throw(5)
-	return t
-}
-
-// within answers a term that may stand anywhere.
-func (d *dice) within(depth int) term.Term {
-	t := d.leaf()
-	switch d.throw(10) {
-	case 0:
-		t = empty()
-	case 1, 2, 3, 4, 5, 6, 7:
-		if depth > 0 {
-			t = of([]int{term.Seq, term.Choice}[d.throw(2)])
-			for range d.throw(4) {
-				t.Kids = append(t.Kids, d.within(depth-1))
-			}
-		}
-	}
-	return d.again(t)
-}
-
-// top answers a term, now and then an All.
-func (d *dice) top(depth int) term.Term {
-	if d.throw(6) > 0 {
-		return d.within(depth)
-	}
-	t := times(d.throw(2), 1, all())
-	for _, n := range []string{"a", "b", "u:a", "c", "v:c"} {
-		if d.throw(2) == 0 {
-			most := (1 + d.throw(4)) / 2 % 2
-			k := times(d.throw(most+1), most, elem(n))
-			k.Leaf = d.throw(5)
-			t.Kids = append(t.Kids, k)
-		}
-	}
-	return t
+	)}
 }
 
 // row answers a few names.
-func (d *dice) row(most int) []api.Name {
+func (d dice) row(most int) []api.Name {
 	var w []api.Name
-	for range d.throw(most + 1) {
-		w = append(w, names("aabAcXx")[d.throw(7)])
+	for range d.Throw(most + 1) {
+		w = append(w, names("aabAcXx")[d.Throw(7)])
 	}
 	return w
 }
@@ -99,19 +49,6 @@ func read(t term.Term, w []api.Name, next *int) *reading {
 		r.kids = append(r.kids, read(k, w, next))
 	}
 	return r
-}
-
-func hit(t term.Term, n api.Name) bool {
-	if t.Kind == term.Elem {
-		return t.Name.Space == n.Space && t.Name.Local == n.Local
-	}
-	switch t.W.How {
-	case wild.Every:
-		return true
-	case wild.Other:
-		return n.Space != "" && n.Space != t.W.Not
-	}
-	return slices.Contains(t.W.Spaces, n.Space)
 }
 
 // rowsOf answers all rows, rising, each once.
@@ -208,15 +145,4 @@ func inAnyOrder(l []*reading, i, j int) [][]int {
 		out = append(out, inRow([]trial{k.rows, then}, i, j)...)
 	}
 	return tidy(out)
-}
-
-// wordsOf answers all rows of at most that many names of an alphabet.
-func wordsOf(most int, l []api.Name) [][]api.Name {
-	out := [][]api.Name{{}}
-	for from := 0; len(out[from]) < most; from++ {
-		for _, n := range l {
-			out = append(out, append(slices.Clone(out[from]), n))
-		}
-	}
-	return out
 }

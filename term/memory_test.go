@@ -2,67 +2,22 @@ package term_test
 
 import (
 	"math"
-	"reflect"
 	"slices"
 	"sync"
 	"testing"
 
 	"rubric/api"
 	"rubric/term"
+	"rubric/terms"
 	"rubric/wild"
 )
-
-// clone answers a term that shares nothing with t.
-func clone(t term.Term) term.Term {
-	t.W.Spaces = slices.Clone(t.W.Spaces)
-	t.Kids = slices.Clone(t.Kids)
-	for i := range t.Kids {
-		t.Kids[i] = clone(t.Kids[i])
-	}
-	return t
-}
-
-// roomy answers the same term, with spare room behind all its lists.
-func roomy(t term.Term) term.Term {
-	if len(t.W.Spaces) > 0 {
-		t.W.Spaces = append(slices.Grow(slices.Clone(t.W.Spaces), 2), "x", "y")[:len(t.W.Spaces)]
-	}
-	l := make([]term.Term, len(t.Kids), len(t.Kids)+2)
-	for i, k := range t.Kids {
-		l[i] = roomy(k)
-	}
-	l[:cap(l)][len(l)], l[:cap(l)][len(l)+1] = elem("spare"), empty()
-	t.Kids = l
-	return t
-}
-
-// sameRoom answers whether both are the same, their spare room too.
-func sameRoom(a, b term.Term) bool {
-	x, y := a.Kids[:cap(a.Kids)], b.Kids[:cap(b.Kids)]
-	if !reflect.DeepEqual(x[len(a.Kids):], y[len(b.Kids):]) || !slices.EqualFunc(a.Kids, b.Kids, sameRoom) {
-		return false
-	}
-	s, r := a.W.Spaces, b.W.Spaces
-	return same(a, b) && slices.Equal(s[:cap(s)], r[:cap(r)])
-}
-
-// spoil writes all over a term's lists and their spare room.
-func spoil(t term.Term) {
-	for i := range t.W.Spaces[:cap(t.W.Spaces)] {
-		t.W.Spaces[:cap(t.W.Spaces)][i] = "spoilt"
-	}
-	for i := range t.Kids[:cap(t.Kids)] {
-		spoil(t.Kids[:cap(t.Kids)][i])
-		t.Kids[:cap(t.Kids)][i] = elem("spoilt")
-	}
-}
 
 func memoryTerms() []term.Term {
 	out := rightTerms()
 	out = append(out, seq(anyOf(these("", "u")), anyOf(these("u", "v")), choice(anyOf(these("u")), elem("a"))), times(0, -1, choice(elem("a"), elem("a"), elem("a"))))
-	d := dice(5)
+	d := newDice(5)
 	for range 200 {
-		out = append(out, d.top(4))
+		out = append(out, d.Top(4))
 	}
 	return out
 }
@@ -150,7 +105,7 @@ func TestP2HandedInIsNotKept(t *testing.T) {
 // what was handed in do.
 func TestP2ListsShareNothing(t *testing.T) {
 	one := []string{"", "u"}
-	kids := []term.Term{elem("a"), anyOf(these(one...)), anyOf(wild.Wild{How: wild.These, Spaces: one, Process: 1})}
+	kids := []term.Term{elem("a"), anyOf(wild.Wild{How: wild.These, Spaces: one, Process: 2}), anyOf(wild.Wild{How: wild.These, Spaces: one, Process: 1})}
 	x := seq(of(term.Seq, kids...), of(term.Choice, kids...), times(0, -1, seq(kids...)))
 	for i := range x.Kids {
 		x.Kids[i].Kids = kids
@@ -248,24 +203,9 @@ func TestP8WrongTerms(t *testing.T) {
 	}
 }
 
-// TestP8TooMuch: terms that are wider, deeper than any memory, or within themselves.
+// TestP8TooMuch: terms that are wider or deeper than may be, or within themselves.
 func TestP8TooMuch(t *testing.T) {
-	lines := elem("a")
-	for range 1 << 20 {
-		lines = seq(lines)
-	}
-	twice := elem("a")
-	for range 60 {
-		twice = choice(twice, twice)
-	}
-	round := make([]term.Term, 2)
-	round[0], round[1] = elem("a"), times(0, -1, of(term.Seq))
-	round[1].Kids = round
-	odd := make([]term.Term, 1)
-	odd[0] = term.Term{Kind: term.Elem, Min: 1, Max: 1, Name: name("a"), Kids: odd}
-	inAll := all(round...)
-	wide := all(elems(200000)...)
-	for i, x := range []term.Term{lines, twice, seq(round...), choice(round...), odd[0], seq(odd...), inAll, wide, seq(wide), of(term.Empty, round...), of(77, round...)} {
+	for i, x := range terms.TooMuch() {
 		if err := term.Check(x); err != api.ErrMany {
 			t.Errorf("%d: %v", i, err)
 		}

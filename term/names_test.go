@@ -58,12 +58,12 @@ func backward(l []term.Term) []term.Term {
 // TestP1503TheyStandForAll: whatever name there is, just the leaves hit it that hit
 // one of Names; and there are no more than these take.
 func TestP1503TheyStandForAll(t *testing.T) {
-	d := dice(4)
+	d := newDice(4)
 	spaces := []string{"", "?", "??", "???", "u", "v", "w", "?u"}
 	locals := []string{"?", "??", "???", "a", "b", "z"}
 	for range 4000 {
 		var l []term.Term
-		for range d.throw(5) {
+		for range d.Throw(5) {
 			l = append(l, d.oddLeaf(spaces, locals))
 		}
 		got := term.Names(l...)
@@ -86,19 +86,19 @@ func TestP1503TheyStandForAll(t *testing.T) {
 	}
 }
 
-func (d *dice) oddLeaf(spaces, locals []string) term.Term {
-	space := func() string { return spaces[d.throw(len(spaces))] }
-	switch d.throw(6) {
+func (d dice) oddLeaf(spaces, locals []string) term.Term {
+	space := func() string { return spaces[d.Throw(len(spaces))] }
+	switch d.Throw(6) {
 	case 0:
 		return anyOf(every())
 	case 1:
 		return anyOf(other(space()))
 	case 2:
-		l := []string{space(), space(), space()}[:d.throw(4)]
+		l := []string{space(), space(), space()}[:d.Throw(4)]
 		slices.Sort(l)
 		return anyOf(these(slices.Compact(l)...))
 	}
-	return term.Term{Kind: term.Elem, Min: 1, Max: 1, Name: api.Name{Space: space(), Local: locals[d.throw(len(locals))]}}
+	return term.Term{Kind: term.Elem, Min: 1, Max: 1, Name: api.Name{Space: space(), Local: locals[d.Throw(len(locals))]}}
 }
 
 // hits answers which of the leaves hit a name.
@@ -153,7 +153,7 @@ func said(l []term.Term) []api.Name {
 // TestP1503Many: as many leaves as a term may have, and more, called by signs alone.
 func TestP1503Many(t *testing.T) {
 	got := term.Names(elems(5000)...)
-	if len(got) != 5002 || got[0] != name("?") || got[1] != name("e0") || got[2] != name("e1") || got[3] != name("e10") || got[5001] != name("?:?") {
+	if len(got) != 5002 || got[0] != name("?") || got[1] != name("e1000") || got[2] != name("e1001") || got[3] != name("e1002") || got[5001] != name("?:?") {
 		t.Errorf("%d: %v", len(got), got[:4])
 	}
 	var l []term.Term

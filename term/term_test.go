@@ -2,24 +2,25 @@ package term_test
 
 import (
 	"math"
-	"reflect"
 	"slices"
-	"strconv"
 	"strings"
 	"testing"
 
 	"rubric/api"
 	"rubric/term"
+	"rubric/terms"
 	"rubric/wild"
 )
 
-// name answers the name that `space:local` tells, or `local`.
-func name(text string) api.Name {
-	if space, local, ok := strings.Cut(text, ":"); ok {
-		return api.Name{Space: space, Local: local}
-	}
-	return api.Name{Local: text}
-}
+// Terms, written short.
+var (
+	name, elem, elems           = terms.Name, terms.Elem, terms.Elems
+	anyOf, every, other, these  = terms.Any, terms.Every, terms.Other, terms.These
+	of, seq, choice, all, empty = terms.Of, terms.Seq, terms.Choice, terms.All, terms.Empty
+	times, deep, tell, same     = terms.Times, terms.Deep, terms.Tell, terms.Same
+	roomy, sameRoom, spoil, hit = terms.Roomy, terms.SameRoom, terms.Spoil, terms.Hit
+	rowsUpTo                    = terms.Rows
+)
 
 // names answers a name for each letter, those of great letters in the space `u`.
 func names(text string) []api.Name {
@@ -34,91 +35,8 @@ func names(text string) []api.Name {
 	return out
 }
 
-func elem(text string) term.Term {
-	return term.Term{Kind: term.Elem, Min: 1, Max: 1, Name: name(text)}
-}
-
-func anyOf(w wild.Wild) term.Term { return term.Term{Kind: term.Any, Min: 1, Max: 1, W: w} }
-
-func every() wild.Wild { return wild.Wild{How: wild.Every, Process: wild.Strict} }
-
-func other(not string) wild.Wild {
-	return wild.Wild{How: wild.Other, Not: not, Process: wild.Lax}
-}
-
-func these(l ...string) wild.Wild {
-	return wild.Wild{How: wild.These, Spaces: l, Process: wild.Skip}
-}
-
-func of(kind int, kids ...term.Term) term.Term {
-	return term.Term{Kind: kind, Min: 1, Max: 1, Kids: kids}
-}
-
-func seq(kids ...term.Term) term.Term { return of(term.Seq, kids...) }
-
-func choice(kids ...term.Term) term.Term { return of(term.Choice, kids...) }
-
-func all(kids ...term.Term) term.Term { return of(term.All, kids...) }
-
-func empty() term.Term { return of(term.Empty) }
-
-// times answers t with another Min and Max.
-func times(least, most int, t term.Term) term.Term {
-	t.Min, t.Max = least, most
-	return t
-}
-
-// deep answers t within so many terms of a kind.
-func deep(n, kind int, t term.Term) term.Term {
-	for range n {
-		t = of(kind, t)
-	}
-	return t
-}
-
 // many answers n times the same term.
 func many(n int, t term.Term) []term.Term { return slices.Repeat([]term.Term{t}, n) }
-
-// elems answers n terms with names of their own.
-func elems(n int) []term.Term {
-	var l []term.Term
-	for i := range n {
-		l = append(l, elem("e"+strconv.Itoa(i)))
-	}
-	return l
-}
-
-// tell answers a term as a text, to be read in a test's words.
-func tell(t term.Term) string {
-	out := ""
-	switch t.Kind {
-	case term.Elem:
-		out = t.Name.Space + ":" + t.Name.Local
-	case term.Any:
-		out = "<" + strconv.Itoa(t.W.How) + " " + t.W.Not + strings.Join(t.W.Spaces, ",") + ">"
-	case term.Empty:
-		out = "empty"
-	default:
-		var l []string
-		for _, k := range t.Kids {
-			l = append(l, tell(k))
-		}
-		out = "[" + strconv.Itoa(t.Kind) + " " + strings.Join(l, " ") + "]"
-	}
-	if t.Min != 1 || t.Max != 1 {
-		out += "{" + strconv.Itoa(t.Min) + "," + strconv.Itoa(t.Max) + "}"
-	}
-	return out
-}
-
-// same answers whether both have the same fields; no list is an empty one.
-func same(a, b term.Term) bool {
-	if !slices.EqualFunc(a.Kids, b.Kids, same) || !slices.Equal(a.W.Spaces, b.W.Spaces) {
-		return false
-	}
-	a.Kids, b.Kids, a.W.Spaces, b.W.Spaces = nil, nil, nil, nil
-	return reflect.DeepEqual(a, b)
-}
 
 func TestP1501Numbers(t *testing.T) {
 	if term.Elem != 1 || term.Any != 2 || term.Seq != 3 || term.Choice != 4 || term.All != 5 || term.Empty != 6 {
@@ -259,9 +177,9 @@ func TestP1501Leaves(t *testing.T) {
 // TestP1501NumberOnly: of terms made at random nothing but the leaves' numbers is
 // another one; these are numbered from 0 on.
 func TestP1501NumberOnly(t *testing.T) {
-	d := dice(15)
+	d := newDice(15)
 	for range 3000 {
-		x := d.top(1 + d.throw(5))
+		x := d.Top(1 + d.Throw(5))
 		got := term.Number(x)
 		leaves := term.Leaves(got)
 		if len(leaves) != len(term.Leaves(x)) {

@@ -118,7 +118,7 @@ func small() []term.Term {
 
 // TestP1502EverySmallTerm: all short rows of all small terms.
 func TestP1502EverySmallTerm(t *testing.T) {
-	short := wordsOf(3, names("ab"))
+	short := rowsUpTo(3, names("ab"))
 	for _, x := range small() {
 		for _, w := range short {
 			hold(t, x, w)
@@ -128,10 +128,10 @@ func TestP1502EverySmallTerm(t *testing.T) {
 
 // TestP1502AnyTerm: terms made at random, Alls too.
 func TestP1502AnyTerm(t *testing.T) {
-	d := dice(1)
+	d := newDice(1)
 	met := 0
 	for range 15000 {
-		x := d.top(1 + d.throw(3))
+		x := d.Top(1 + d.Throw(3))
 		if size(x) > 40 {
 			continue
 		}
@@ -161,10 +161,10 @@ func size(t term.Term) int {
 // TestP1502LongerRows: rows that are grown from a term, and such as are spoilt: of
 // trees too great to try all cuts, Paths is held to Word, and each row to its leaves.
 func TestP1502LongerRows(t *testing.T) {
-	d := dice(2)
+	d := newDice(2)
 	met := 0
-	for range 20000 {
-		x := d.within(4)
+	for range 25000 {
+		x := d.Within(4)
 		w := d.grow(x)
 		next := 0
 		if len(w) < 3 || len(w) > 12 || glush.Positions(expr(x, &next), api.MaxPos) > api.MaxPos {
@@ -176,7 +176,7 @@ func TestP1502LongerRows(t *testing.T) {
 		}
 		holdPaths(t, x, w)
 		spoilt := slices.Clone(w)
-		spoilt[d.throw(len(w))] = names("abAX")[d.throw(4)]
+		spoilt[d.Throw(len(w))] = names("abAX")[d.Throw(4)]
 		holdPaths(t, x, spoilt)
 	}
 	if met < 2000 {
@@ -185,13 +185,13 @@ func TestP1502LongerRows(t *testing.T) {
 }
 
 // grow answers a word of a term, or nil: there need be none.
-func (d *dice) grow(t term.Term) []api.Name {
+func (d dice) grow(t term.Term) []api.Name {
 	var w []api.Name
 	n := t.Min
 	if t.Max == -1 {
-		n += d.throw(3)
+		n += d.Throw(3)
 	} else {
-		n += d.throw(t.Max - t.Min + 1)
+		n += d.Throw(t.Max - t.Min + 1)
 	}
 	for range n {
 		k := d.growOnce(t)
@@ -203,11 +203,11 @@ func (d *dice) grow(t term.Term) []api.Name {
 	return append([]api.Name{}, w...)
 }
 
-func (d *dice) growOnce(t term.Term) []api.Name {
+func (d dice) growOnce(t term.Term) []api.Name {
 	switch t.Kind {
 	case term.Elem, term.Any:
 		for range 30 {
-			if n := names("abAcXx")[d.throw(6)]; hit(t, n) {
+			if n := names("abAcXx")[d.Throw(6)]; hit(t, n) {
 				return []api.Name{n}
 			}
 		}
@@ -216,7 +216,7 @@ func (d *dice) growOnce(t term.Term) []api.Name {
 		if len(t.Kids) == 0 {
 			return nil
 		}
-		return d.grow(t.Kids[d.throw(len(t.Kids))])
+		return d.grow(t.Kids[d.Throw(len(t.Kids))])
 	}
 	w := []api.Name{}
 	for _, k := range t.Kids {
@@ -406,7 +406,7 @@ func TestP1502LongWords(t *testing.T) {
 		{seq(many(2000, times(0, 1, a))...), long(2000, "a"), true}, {seq(many(2000, times(0, 1, a))...), long(2001, "a"), false},
 		{seq(many(4095, a)...), long(4095, "a"), true}, {times(0, -1, choice(elems(512)...)), slices.Repeat(elemNames(512), 8), true},
 		{seq(times(0, -1, anyOf(every())), b, times(7, 7, anyOf(these("")))), append(long(4000, "a"), names("baaaaaaa")...), true}, {seq(times(0, -1, anyOf(every())), b, times(7, 7, anyOf(these("")))), append(long(4000, "a"), names("baaaAaaa")...), false},
-		{all(elems(4095)...), elemNames(4095), true}, {all(elems(4095)...), elemNames(4094), false}, {all(elems(4094)...), append(elemNames(4094), name("e7")), false},
+		{all(elems(4095)...), elemNames(4095), true}, {all(elems(4095)...), elemNames(4094), false}, {all(elems(4094)...), append(elemNames(4094), name("e1007")), false},
 	} {
 		if got := term.Word(c.t, c.w); got != c.want {
 			t.Errorf("%d: %v", i, got)
@@ -480,16 +480,16 @@ func deepTimes(levels, n int, t term.Term) term.Term {
 // TestP1502LeastWord: terms made at random have a word of Least names, and none of
 // fewer: of terms whose wildcards allow something.
 func TestP1502LeastWord(t *testing.T) {
-	d := dice(3)
+	d := newDice(3)
 	alphabet := append(names("abAc"), name("v:c"))
 	met := map[int]int{}
 	for range 6000 {
-		x := d.top(3)
+		x := d.Top(3)
 		if slices.ContainsFunc(term.Leaves(x), func(l term.Term) bool { return l.Kind == term.Any && len(l.W.Spaces) == 0 && l.W.How == 3 }) {
 			continue
 		}
 		want := -1
-		for _, w := range wordsOf(4, alphabet) {
+		for _, w := range rowsUpTo(4, alphabet) {
 			if term.Word(x, w) {
 				want = len(w)
 				break
